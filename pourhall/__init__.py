@@ -1,0 +1,1 @@
+"""Pourhall: patterns, moulds, cores and risers of a foundry, told cube by cube."""

@@ -1,0 +1,102 @@
+"""Nothing handed in is changed, what is told is the asker's own, and asked again the same is told."""
+
+import copy
+import unittest
+
+from pourhall import bodies, cells, texts
+from pourhall.errors import PourError
+
+from samples import bar, no_cells
+
+BODY = [(0, 0, 0), (0, 0, 1), (2, 0, 0), (2, 1, 0)]
+OTHER = [(0, 0, 1), (2, 1, 0), (5, 5, 5)]
+
+
+def askings():
+    """Each as a name, a function and fresh things to hand in."""
+    return [
+        ("neighbours", cells.neighbours, [(1, 2, 3)]),
+        ("body_of", bodies.body_of, [[(2, 0, 0), (0, 0, 0), (2, 0, 0)]]),
+        ("body_of a body", bodies.body_of, [list(BODY)]),
+        ("joined", bodies.joined, [list(BODY), list(OTHER)]),
+        ("joined with none", bodies.joined, [list(BODY), []]),
+        ("less", bodies.less, [list(BODY), list(OTHER)]),
+        ("less none", bodies.less, [list(BODY), []]),
+        ("common", bodies.common, [list(BODY), list(OTHER)]),
+        ("common of alike", bodies.common, [list(BODY), list(BODY)]),
+        ("moved", bodies.moved, [list(BODY), 1, 2, 3]),
+        ("moved by nothing", bodies.moved, [list(BODY), 0, 0, 0]),
+        ("moved without cells", bodies.moved, [[], 1, 0, 0]),
+        ("quarter", bodies.quarter, [list(BODY), "z"]),
+        ("mirrored", bodies.mirrored, [list(BODY), "x"]),
+        ("pieces", bodies.pieces, [list(BODY)]),
+        ("pieces of one", bodies.pieces, [[(0, 0, 0)]]),
+        ("pieces of none", bodies.pieces, [[]]),
+        ("read", texts.read, ["0 0 0: #.#"]),
+        ("read none", texts.read, ["none"]),
+        ("shown", texts.shown, [list(BODY)]),
+        ("span", bodies.span, [list(BODY), "y"]),
+    ]
+
+
+def spoil(told):
+    """Change a told list, and the lists within it."""
+    if isinstance(told, list):
+        for thing in told:
+            spoil(thing)
+        told.append("spoiled")
+        told.reverse()
+
+
+class TestKeeping(unittest.TestCase):
+    def test_nothing_handed_in_is_changed(self):
+        for name, asked, things in askings():
+            kept = copy.deepcopy(things)
+            asked(*things)
+            self.assertEqual(things, kept, name)
+
+    def test_nothing_handed_in_is_changed_by_a_refusal(self):
+        for asked, things in [(bodies.body_of, [[(0, 0, 0), "a", (0, 0, 0)]]), (bodies.body_of, [bar(601)[::-1]]),
+                              (bodies.joined, [bar(600), [(0, 0, 5)]]), (bodies.moved, [list(BODY), 60, 0, 0])]:
+            kept = copy.deepcopy(things)
+            with self.assertRaises(PourError):
+                asked(*things)
+            self.assertEqual(things, kept)
+
+    def test_the_same_is_told_again(self):
+        for name, asked, things in askings():
+            self.assertEqual(asked(*things), asked(*things), name)
+
+    def test_a_changed_answer_changes_neither_what_was_handed_in_nor_the_next_answer(self):
+        for name, asked, things in askings():
+            kept = copy.deepcopy(things)
+            told = asked(*things)
+            first = copy.deepcopy(told)
+            spoil(told)
+            self.assertEqual(things, kept, name)
+            self.assertEqual(asked(*things), first, name)
+
+    def test_what_was_told_stays_when_other_things_are_asked(self):
+        told = [(name, asked(*things)) for name, asked, things in askings()]
+        kept = copy.deepcopy(told)
+        for name, asked, things in askings():
+            spoil(asked(*things))
+        bodies.body_of([(7, 7, 7)])
+        bodies.pieces(OTHER)
+        texts.read("1 1 1: #")
+        for thing in no_cells():
+            with self.assertRaises(PourError):
+                texts.read(thing)
+        self.assertEqual(told, kept)
+
+    def test_what_was_told_stays_when_what_was_handed_in_is_changed(self):
+        for name, asked, things in askings():
+            told = asked(*things)
+            kept = copy.deepcopy(told)
+            for thing in things:
+                spoil(thing)
+            self.assertEqual(told, kept, name)
+
+
+if __name__ == "__main__":
+    unittest.main()
