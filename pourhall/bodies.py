@@ -1,6 +1,6 @@
 """Bodies: sorted lists of unlike cells, how they are made, put together, moved, turned and taken to pieces."""
 
-from pourhall.cells import along, is_cell, mirrored_cell, neighbours, quarter_cell
+from pourhall.cells import along, is_cell, line_of, mirrored_cell, neighbours, quarter_cell
 from pourhall.errors import NoCell, TooMany
 
 MOST_CELLS = 600
@@ -74,6 +74,15 @@ def marked(cells):
     for cell in cells:
         marks[cell] = True
     return marks
+
+
+def lines_of(body, axis):
+    """A dict from each line along an axis on which a body has cells to their numbers there, rising."""
+    lines = {}
+    # A body is sorted, so its cells on one line come with rising numbers.
+    for cell in body:
+        lines.setdefault(line_of(cell, axis), []).append(along(cell, axis))
+    return lines
 
 
 def piece_of(start, marks):

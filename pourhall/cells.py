@@ -36,6 +36,18 @@ def placed(cell, axis, number):
     return tuple(numbers)
 
 
+def line_of(cell, axis):
+    """The line along an axis on which a cell lies, told by its two other numbers."""
+    return tuple([number for place, number in enumerate(cell) if place != PLACES[axis]])
+
+
+def on_line(line, axis, number):
+    """The cell of a line along an axis that has a number there."""
+    numbers = list(line)
+    numbers.insert(PLACES[axis], number)
+    return tuple(numbers)
+
+
 def next_cell(cell, way):
     """The next cell along a way, perhaps one beyond 60 or -60."""
     axis = way[1]

@@ -49,3 +49,47 @@ def sample_bodies():
         bodies.append(sorted(set(scattered(seed, 1 + 3 * seed, 1 + seed % 5))))
     bodies.append(sorted(set(scattered(99, 30, 60))))
     return bodies
+
+
+def heap(seed, size):
+    """A dense body in a room of size by size by size cells round the origin, by a fixed seed."""
+    source = random.Random(seed)
+    low = -(size // 2)
+    room = range(low, low + size)
+    share = source.choice([0.3, 0.5, 0.7, 0.9])
+    return sorted((x, y, z) for x in room for y in room for z in room if source.random() < share)
+
+
+def hill(seed, size, axis):
+    """A body that stands on a layer of numbers -2 along the axis without a gap, by a fixed seed."""
+    source = random.Random(seed)
+    place = AXES.index(axis)
+    cells = []
+    for u in range(size):
+        for v in range(size):
+            for number in range(-2, source.randint(-2, 3)):
+                cell = [u, v]
+                cell.insert(place, number)
+                cells.append(tuple(cell))
+    return sorted(cells)
+
+
+def parting_bodies():
+    """Bodies of many forms, among them such as part, as lists made without the program."""
+    bodies = sample_bodies()[:40] + [heap(seed, 2 + seed % 3) for seed in range(30)]
+    for seed in range(6):
+        bodies += [hill(seed, 3, axis) for axis in AXES]
+    return bodies
+
+
+def other_lines(cell, axis):
+    """The two numbers of a cell but the one along the axis."""
+    place = AXES.index(axis)
+    return cell[:place] + cell[place + 1:]
+
+
+def shifted(cell, axis, count):
+    """The cell some steps farther along an axis, backward where the count is below 0."""
+    numbers = list(cell)
+    numbers[AXES.index(axis)] += count
+    return tuple(numbers)

@@ -3,7 +3,7 @@
 import copy
 import unittest
 
-from pourhall import bodies, cells, texts
+from pourhall import bodies, boxes, cells, drawing, planes, steps, texts
 from pourhall.errors import PourError
 
 from samples import bar, no_cells
@@ -36,6 +36,20 @@ def askings():
         ("read none", texts.read, ["none"]),
         ("shown", texts.shown, [list(BODY)]),
         ("span", bodies.span, [list(BODY), "y"]),
+        ("hindrance", drawing.hindrance, [list(BODY), list(OTHER), "+y"]),
+        ("hindrance of alike", drawing.hindrance, [list(BODY), list(BODY), "-z"]),
+        ("first_bump", drawing.first_bump, [list(BODY), list(OTHER), "+z"]),
+        ("parts_at", planes.parts_at, [list(BODY), "z", 5]),
+        ("parts_at where it parts", planes.parts_at, [list(BODY), "z", 0]),
+        ("planes", planes.planes, [list(BODY), "z"]),
+        ("planes of none", planes.planes, [[], "z"]),
+        ("steps", steps.steps, [list(BODY), "z"]),
+        ("steps of none", steps.steps, [[], "x"]),
+        ("comes_off", boxes.comes_off, [list(BODY), "x", 0, 3]),
+        ("boxes", boxes.boxes, [list(BODY), "x"]),
+        ("boxes of none", boxes.boxes, [[], "x"]),
+        ("boxes_paper", boxes.boxes_paper, [list(BODY), "x"]),
+        ("boxes_paper of one box", boxes.boxes_paper, [list(BODY), "z"]),
     ]
 
 
@@ -57,7 +71,8 @@ class TestKeeping(unittest.TestCase):
 
     def test_nothing_handed_in_is_changed_by_a_refusal(self):
         for asked, things in [(bodies.body_of, [[(0, 0, 0), "a", (0, 0, 0)]]), (bodies.body_of, [bar(601)[::-1]]),
-                              (bodies.joined, [bar(600), [(0, 0, 5)]]), (bodies.moved, [list(BODY), 60, 0, 0])]:
+                              (bodies.joined, [bar(600), [(0, 0, 5)]]), (bodies.moved, [list(BODY), 60, 0, 0]),
+                              (steps.steps, [list(BODY), "x"])]:
             kept = copy.deepcopy(things)
             with self.assertRaises(PourError):
                 asked(*things)
@@ -83,6 +98,9 @@ class TestKeeping(unittest.TestCase):
             spoil(asked(*things))
         bodies.body_of([(7, 7, 7)])
         bodies.pieces(OTHER)
+        steps.steps(OTHER, "z")
+        planes.planes(OTHER, "z")
+        boxes.boxes_paper(OTHER, "z")
         texts.read("1 1 1: #")
         for thing in no_cells():
             with self.assertRaises(PourError):
