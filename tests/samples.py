@@ -93,3 +93,31 @@ def shifted(cell, axis, count):
     numbers = list(cell)
     numbers[AXES.index(axis)] += count
     return tuple(numbers)
+
+
+def snake():
+    """600 cells in one long winding row, in the order in which they hang together; each has two neighbours at most."""
+    cells = []
+    x = -50
+    y = 0
+    step = 1
+    while len(cells) < 600:
+        cells.append((x, y, 0))
+        if y % 2 == 0 and -50 <= x + step <= 48:
+            x += step
+        else:
+            y += 1
+            if y % 2 == 0:
+                step = -step
+    return cells
+
+
+def upright_snake():
+    """600 cells in one long winding row that goes up and down; ahead in the row is not always higher."""
+    return [(y, 0, x) for x, y, z in snake()]
+
+
+def is_way(cells, hollow):
+    """Whether cells are a way through a hollow without a cell twice."""
+    steps = [sum(abs(a - b) for a, b in zip(one, other)) for one, other in zip(cells, cells[1:])]
+    return bool(cells) and set(cells) <= set(hollow) and len(set(cells)) == len(cells) and set(steps) <= {1}

@@ -3,13 +3,23 @@
 import copy
 import unittest
 
-from pourhall import bodies, boxes, cells, drawing, planes, steps, texts
+from pourhall import air, bodies, boxes, cells, cores, drawing, parts, planes, pouring, steps, texts
 from pourhall.errors import PourError
 
 from samples import bar, no_cells
 
 BODY = [(0, 0, 0), (0, 0, 1), (2, 0, 0), (2, 1, 0)]
 OTHER = [(0, 0, 1), (2, 1, 0), (5, 5, 5)]
+HOLLOW = [(0, 0, 0), (0, 0, 1), (1, 0, 1), (2, 0, 0), (2, 0, 1), (4, 0, 0)]
+
+
+def two_parts(way, other):
+    return [([(0, 0, 0), (0, 0, 1)], way), ([(3, 0, 0)], other)]
+
+
+def far_apart():
+    """A body with more gaps along x than a body may have cells."""
+    return sorted((x, y, 0) for x in (-60, 60) for y in range(6))
 
 
 def askings():
@@ -50,14 +60,33 @@ def askings():
         ("boxes of none", boxes.boxes, [[], "x"]),
         ("boxes_paper", boxes.boxes_paper, [list(BODY), "x"]),
         ("boxes_paper of one box", boxes.boxes_paper, [list(BODY), "z"]),
+        ("gaps", cores.gaps, [list(BODY), "x"]),
+        ("gaps of none", cores.gaps, [[], "x"]),
+        ("cores", cores.cores, [list(BODY), "x"]),
+        ("cores of none", cores.cores, [[], "x"]),
+        ("hold", cores.hold, [list(BODY), "x", [(1, 0, 0)]]),
+        ("held_by", parts.held_by, [two_parts("+x", "+x")]),
+        ("order_of", parts.order_of, [two_parts("+x", "+x")]),
+        ("order_of a ring", parts.order_of, [two_parts("+x", "-x")]),
+        ("walked", parts.walked, [two_parts("+x", "+x"), [1, 0]]),
+        ("walked where one is held", parts.walked, [two_parts("+x", "+x"), [0, 1]]),
+        ("level", pouring.level, [list(HOLLOW), (0, 0, 0), (2, 0, 0)]),
+        ("way_to", pouring.way_to, [list(HOLLOW), (0, 0, 0), (2, 0, 0)]),
+        ("way_to nowhere", pouring.way_to, [list(HOLLOW), (0, 0, 0), (4, 0, 0)]),
+        ("filled", pouring.filled, [list(HOLLOW), (0, 0, 0)]),
+        ("leaves_by", air.leaves_by, [list(HOLLOW), [(2, 0, 1), (0, 0, 0), (2, 0, 1)], (0, 0, 1)]),
+        ("leaves_by at a vent", air.leaves_by, [list(HOLLOW), [(2, 0, 1)], (2, 0, 1)]),
+        ("shut", air.shut, [list(HOLLOW), [(2, 0, 1), (2, 0, 1)]]),
+        ("shut without vents", air.shut, [list(HOLLOW), []]),
     ]
 
 
 def spoil(told):
-    """Change a told list, and the lists within it."""
-    if isinstance(told, list):
+    """Change a told list, and the lists within it or within a tuple."""
+    if isinstance(told, (list, tuple)):
         for thing in told:
             spoil(thing)
+    if isinstance(told, list):
         told.append("spoiled")
         told.reverse()
 
@@ -72,7 +101,8 @@ class TestKeeping(unittest.TestCase):
     def test_nothing_handed_in_is_changed_by_a_refusal(self):
         for asked, things in [(bodies.body_of, [[(0, 0, 0), "a", (0, 0, 0)]]), (bodies.body_of, [bar(601)[::-1]]),
                               (bodies.joined, [bar(600), [(0, 0, 5)]]), (bodies.moved, [list(BODY), 60, 0, 0]),
-                              (steps.steps, [list(BODY), "x"])]:
+                              (steps.steps, [list(BODY), "x"]), (cores.gaps, [far_apart(), "x"]),
+                              (cores.cores, [far_apart(), "x"])]:
             kept = copy.deepcopy(things)
             with self.assertRaises(PourError):
                 asked(*things)
@@ -101,6 +131,10 @@ class TestKeeping(unittest.TestCase):
         steps.steps(OTHER, "z")
         planes.planes(OTHER, "z")
         boxes.boxes_paper(OTHER, "z")
+        cores.cores(OTHER, "x")
+        parts.order_of(two_parts("+y", "-z"))
+        pouring.filled(OTHER, (5, 5, 5))
+        air.shut(OTHER, [(5, 5, 5)])
         texts.read("1 1 1: #")
         for thing in no_cells():
             with self.assertRaises(PourError):

@@ -2,15 +2,19 @@
 
 import unittest
 
+from pourhall.air import leaves_by, shut
 from pourhall.bodies import mirrored, pieces, quarter
 from pourhall.boxes import boxes, boxes_paper, comes_off
 from pourhall.cells import mirrored_cell, mirrored_way, quarter_cell, quarter_way
+from pourhall.cores import cores, gaps, hold
 from pourhall.drawing import first_bump, hindrance
-from pourhall.errors import Undercut
+from pourhall.errors import TooMany, Undercut
+from pourhall.parts import held_by, order_of, walked
 from pourhall.planes import parts_at, planes
+from pourhall.pouring import filled, level, way_to
 from pourhall.steps import steps
 
-from samples import AXES, WAYS, parting_bodies
+from samples import AXES, WAYS, heap, parting_bodies
 
 TURNINGS = [(quarter, quarter_cell, quarter_way, axis) for axis in AXES]
 TURNINGS += [(mirrored, mirrored_cell, mirrored_way, axis) for axis in AXES]
@@ -56,6 +60,18 @@ def has_steps(body, axis):
     except Undercut:
         return False
     return True
+
+
+def turnings_that_keep_heights():
+    """A quarter about z, and mirrors along x and y."""
+    return [turning for turning in turnings() if turning.way("+z") == "+z"]
+
+
+def gaps_or_none(body, axis):
+    try:
+        return gaps(body, axis)
+    except TooMany:
+        return None
 
 
 class TestTurned(unittest.TestCase):
@@ -127,6 +143,77 @@ class TestTurned(unittest.TestCase):
                     expected = comes_off(body, axis, -1, 2)
                     told = comes_off(turned, turning.axis(axis), -1, 2)
                     self.assertEqual(told[::-1] if turning.upside_down(axis) else told, expected)
+
+    def test_gaps_are_turned(self):
+        for body in parting_bodies():
+            for turning in turnings():
+                for axis in AXES:
+                    told = gaps_or_none(turning.body(body), turning.axis(axis))
+                    expected = gaps_or_none(body, axis)
+                    self.assertEqual(told, None if expected is None else turning.body(expected))
+
+    def test_cores_are_turned_and_held_where_they_were(self):
+        for body in parting_bodies():
+            for axis in AXES:
+                if gaps_or_none(body, axis):
+                    for turning in turnings():
+                        self.cores_turned(body, axis, turning)
+
+    def cores_turned(self, body, axis, turning):
+        turned = turning.body(body)
+        other = turning.axis(axis)
+        self.assertEqual(cores(turned, other), sorted(turning.body(core) for core in cores(body, axis)))
+        for core in cores(body, axis)[:10]:
+            told = hold(turned, other, turning.body(core))
+            self.assertEqual(told is None, hold(body, axis, core) is None)
+
+
+def parts_of(body, shift):
+    """Up to twenty parts: the pieces of a body, each with a way in turn."""
+    return [(piece, WAYS[(k + shift) % 6]) for k, piece in enumerate(pieces(body)[:20])]
+
+
+class TestTurnedParts(unittest.TestCase):
+    def test_parts_come_away_in_the_same_order(self):
+        kinds = []
+        for body in parting_bodies():
+            for shift in range(6):
+                parts = parts_of(body, shift)
+                kinds.append(order_of(parts)[0])
+                for turning in turnings():
+                    turned = [(turning.body(part), turning.way(way)) for part, way in parts]
+                    self.assertEqual(held_by(turned), held_by(parts))
+                    self.assertEqual(order_of(turned), order_of(parts))
+                    order = list(range(len(parts)))
+                    self.assertEqual(walked(turned, order), walked(parts, order))
+        self.assertEqual(set(kinds), {"order", "ring"})
+
+
+class TestTurnedPouring(unittest.TestCase):
+    def test_only_turnings_that_keep_heights_are_asked(self):
+        self.assertEqual([turning.about for turning in turnings_that_keep_heights()], ["z", "x", "y"])
+
+    def test_levels_are_turned(self):
+        for hollow in [heap(seed, 4) for seed in range(12)]:
+            for turning in turnings_that_keep_heights():
+                gate = hollow[len(hollow) // 2]
+                turned = turning.body(hollow)
+                for cell in hollow[::3]:
+                    asked = (turned, turning.cell(gate), turning.cell(cell))
+                    self.assertEqual(level(*asked), level(hollow, gate, cell))
+                    self.assertEqual(way_to(*asked) is None, way_to(hollow, gate, cell) is None)
+                self.assertEqual(sorted(filled(turned, turning.cell(gate))), turning.body(filled(hollow, gate)))
+
+    def test_shut_cells_are_turned(self):
+        for seed in range(12):
+            hollow = heap(seed, 4)
+            for vents in [[], hollow[5:6], hollow[3:40:9]]:
+                for turning in turnings_that_keep_heights():
+                    asked = (turning.body(hollow), [turning.cell(vent) for vent in vents])
+                    self.assertEqual(shut(*asked), turning.body(shut(hollow, vents)))
+                    for cell in hollow[::5]:
+                        told = leaves_by(asked[0], asked[1], turning.cell(cell))
+                        self.assertEqual(told is None, leaves_by(hollow, vents, cell) is None)
 
 
 if __name__ == "__main__":
