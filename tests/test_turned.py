@@ -179,11 +179,16 @@ class TestTurnedParts(unittest.TestCase):
         for body in parting_bodies():
             for shift in range(6):
                 parts = parts_of(body, shift)
-                kinds.append(order_of(parts)[0])
+                told = order_of(parts)
+                kinds.append(told[0])
                 for turning in turnings():
                     turned = [(turning.body(part), turning.way(way)) for part, way in parts]
                     self.assertEqual(held_by(turned), held_by(parts))
-                    self.assertEqual(order_of(turned), order_of(parts))
+                    # Which ring is told isn't promised, only that there is one.
+                    if told[0] == "ring":
+                        self.assertEqual(order_of(turned)[0], "ring")
+                    else:
+                        self.assertEqual(order_of(turned), told)
                     order = list(range(len(parts)))
                     self.assertEqual(walked(turned, order), walked(parts, order))
         self.assertEqual(set(kinds), {"order", "ring"})
