@@ -47,12 +47,20 @@ def number_of(word):
     return int(word)
 
 
+def three_numbers(text, sign):
+    """The three numbers that a text writes with a sign between, as a tuple, or None."""
+    numbers = [number_of(word) for word in text.split(sign)]
+    if len(numbers) != 3 or None in numbers:
+        return None
+    return tuple(numbers)
+
+
 def corner_of(head):
     """The three least numbers that stand ahead of the layers, or NoText."""
-    numbers = [number_of(word) for word in head.split(" ")]
-    if len(numbers) != 3 or None in numbers:
+    corner = three_numbers(head, " ")
+    if corner is None:
         raise NoText("three numbers stand ahead of the layers")
-    return tuple(numbers)
+    return corner
 
 
 def cells_drawn(corner, layers):

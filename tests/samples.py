@@ -60,6 +60,20 @@ def heap(seed, size):
     return sorted((x, y, z) for x in room for y in room for z in room if source.random() < share)
 
 
+def block(corner, size):
+    """All cells of a cube of so many cells each way, the corner being its least one."""
+    x, y, z = corner
+    room = range(size)
+    return [(x + east, y + north, z + up) for east in room for north in room for up in room]
+
+
+def carved(seed, size, count):
+    """A block with some cells taken out, by a fixed seed."""
+    cells = block((0, 0, 0), size)
+    gone = random.Random(seed).sample(cells, count)
+    return [cell for cell in cells if cell not in gone]
+
+
 def hill(seed, size, axis):
     """A body that stands on a layer of numbers -2 along the axis without a gap, by a fixed seed."""
     source = random.Random(seed)

@@ -78,6 +78,10 @@ class TestLeavesBy(unittest.TestCase):
     def test_no_way_at_all(self):
         self.assertIsNone(leaves_by([(0, 0, 0), (2, 0, 0)], [(2, 0, 0)], (0, 0, 0)))
 
+    def test_a_vent_outside_the_hollow_ends_no_way_through_it(self):
+        self.assertIsNone(leaves_by([(0, 0, 0)], [(1, 0, 0)], (0, 0, 0)))
+        self.assertEqual(shut([(0, 0, 0)], [(1, 0, 0)]), [(0, 0, 0)])
+
     def test_a_winding_row_of_600(self):
         row = snake()
         self.assertEqual(leaves_by(sorted(row), [row[-1]], row[0]), row)

@@ -3,10 +3,11 @@
 import copy
 import unittest
 
-from pourhall import air, bodies, boxes, cells, cores, drawing, parts, planes, pouring, steps, texts
+from pourhall import air, bodies, boxes, cells, cold, cores, drawing, parts, planes, pouring, risers, steps, texts
+from pourhall.desk import Desk
 from pourhall.errors import PourError
 
-from samples import bar, no_cells
+from samples import bar, block, no_cells
 
 BODY = [(0, 0, 0), (0, 0, 1), (2, 0, 0), (2, 1, 0)]
 OTHER = [(0, 0, 1), (2, 1, 0), (5, 5, 5)]
@@ -78,11 +79,29 @@ def askings():
         ("leaves_by at a vent", air.leaves_by, [list(HOLLOW), [(2, 0, 1)], (2, 0, 1)]),
         ("shut", air.shut, [list(HOLLOW), [(2, 0, 1), (2, 0, 1)]]),
         ("shut without vents", air.shut, [list(HOLLOW), []]),
+        ("depths", cold.depths, [list(HOLLOW)]),
+        ("depths of a block", cold.depths, [block((0, 0, 0), 4)]),
+        ("depths of none", cold.depths, [[]]),
+        ("fed_by", risers.fed_by, [block((0, 0, 0), 4), [(1, 1, 1), (0, 0, 0), (1, 1, 1)], (3, 0, 0)]),
+        ("fed_by at a riser", risers.fed_by, [list(HOLLOW), [(2, 0, 1)], (2, 0, 1)]),
+        ("fed_by none", risers.fed_by, [list(HOLLOW), [], (2, 0, 1)]),
+        ("starved", risers.starved, [block((0, 0, 0), 4), [(0, 0, 0), (0, 0, 0)]]),
+        ("starved without risers", risers.starved, [list(HOLLOW), []]),
+        ("summits", risers.summits, [list(HOLLOW)]),
+        ("summits of a block", risers.summits, [block((0, 0, 0), 4)]),
+        ("summits of one", risers.summits, [[(0, 0, 0)]]),
+        ("summits of none", risers.summits, [[]]),
+        ("fewest_risers", risers.fewest_risers, [list(HOLLOW)]),
+        ("fewest_risers of none", risers.fewest_risers, [[]]),
     ]
 
 
 def spoil(told):
-    """Change a told list, and the lists within it or within a tuple."""
+    """Change a told list or dict, and the lists within it or within a tuple."""
+    if isinstance(told, dict):
+        told["spoiled"] = True
+        for key in list(told):
+            told[key] = "spoiled"
     if isinstance(told, (list, tuple)):
         for thing in told:
             spoil(thing)
@@ -135,6 +154,9 @@ class TestKeeping(unittest.TestCase):
         parts.order_of(two_parts("+y", "-z"))
         pouring.filled(OTHER, (5, 5, 5))
         air.shut(OTHER, [(5, 5, 5)])
+        cold.depths(OTHER)
+        risers.summits(OTHER)
+        risers.starved(OTHER, [(5, 5, 5)])
         texts.read("1 1 1: #")
         for thing in no_cells():
             with self.assertRaises(PourError):
@@ -148,6 +170,15 @@ class TestKeeping(unittest.TestCase):
             for thing in things:
                 spoil(thing)
             self.assertEqual(told, kept, name)
+
+    def test_what_is_done_and_asked_elsewhere_changes_nothing_at_a_desk(self):
+        desk = Desk()
+        desk.say("body a " + texts.shown(HOLLOW))
+        told = [desk.say(row) for row in ["show a", "pieces a", "summits a", "risers a", "boxes a z", "planes a x"]]
+        for name, asked, things in askings():
+            spoil(asked(*things))
+        again = [desk.say(row) for row in ["show a", "pieces a", "summits a", "risers a", "boxes a z", "planes a x"]]
+        self.assertEqual(told, again)
 
 
 if __name__ == "__main__":

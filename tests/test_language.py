@@ -251,6 +251,44 @@ class TestForm(unittest.TestCase):
                     walked = isinstance(above, (ast.For, ast.comprehension)) and above.iter is node
                     self.assertTrue(walked or called(above, WALKERS), f"{name}:{node.lineno}")
 
+    def test_items_keys_and_values_are_walked_at_once(self):
+        for name, tree in trees():
+            parents = parents_of(tree)
+            for node in ast.walk(tree):
+                if isinstance(node, ast.Attribute) and node.attr in ("items", "keys", "values"):
+                    above = parents[parents[node]]
+                    walked = isinstance(above, (ast.For, ast.comprehension)) and above.iter is parents[node]
+                    self.assertTrue(walked or called(above, WALKERS), f"{name}:{node.lineno}")
+
+    def test_lists_and_dicts_of_a_top_are_only_read(self):
+        kept = {node.targets[0].id for name, tree in trees() for node in tree.body
+                if isinstance(node, ast.Assign) and isinstance(node.value, (ast.List, ast.Dict))}
+        for name, tree in trees():
+            parents = parents_of(tree)
+            for node in ast.walk(tree):
+                if isinstance(node, ast.Assign) and isinstance(node.value, (ast.List, ast.Dict)) and node in tree.body:
+                    inner = [other for other in ast.walk(node.value) if isinstance(other, (ast.List, ast.Dict))]
+                    self.assertEqual(inner, [node.value], f"{name}:{node.lineno}")
+                if isinstance(node, ast.Name) and node.id in kept and isinstance(node.ctx, ast.Load):
+                    above = parents[node]
+                    indexed = isinstance(above, ast.Subscript) and isinstance(above.ctx, ast.Load)
+                    asked = isinstance(above, ast.Compare) and node in above.comparators
+                    walked = isinstance(above, (ast.For, ast.comprehension)) and above.iter is node
+                    copied = called(above, {"len", "list", "dict", "sorted"})
+                    self.assertTrue(indexed or asked or walked or copied, f"{name}:{node.lineno}")
+
+    def test_classes_are_called_taken_or_made_of(self):
+        for name, tree in trees():
+            parents = parents_of(tree)
+            for node in ast.walk(tree):
+                if isinstance(node, ast.Name) and re.match("[A-Z][a-z]", node.id):
+                    above = parents[node]
+                    if isinstance(above, ast.Tuple):
+                        above = parents[above]
+                    self.assertTrue(isinstance(above, (ast.Call, ast.ClassDef, ast.ExceptHandler, ast.Raise))
+                                    or (isinstance(above, ast.Attribute) and above.attr == "__init__"),
+                                    f"{name}:{node.lineno}")
+
     def test_sets(self):
         for name, tree in trees():
             parents = parents_of(tree)

@@ -6,15 +6,17 @@ from pourhall.air import leaves_by, shut
 from pourhall.bodies import mirrored, pieces, quarter
 from pourhall.boxes import boxes, boxes_paper, comes_off
 from pourhall.cells import mirrored_cell, mirrored_way, quarter_cell, quarter_way
+from pourhall.cold import depths
 from pourhall.cores import cores, gaps, hold
 from pourhall.drawing import first_bump, hindrance
 from pourhall.errors import TooMany, Undercut
 from pourhall.parts import held_by, order_of, walked
 from pourhall.planes import parts_at, planes
 from pourhall.pouring import filled, level, way_to
+from pourhall.risers import fed_by, fewest_risers, starved, summits
 from pourhall.steps import steps
 
-from samples import AXES, WAYS, heap, parting_bodies
+from samples import AXES, WAYS, block, carved, heap, parting_bodies
 
 TURNINGS = [(quarter, quarter_cell, quarter_way, axis) for axis in AXES]
 TURNINGS += [(mirrored, mirrored_cell, mirrored_way, axis) for axis in AXES]
@@ -219,6 +221,38 @@ class TestTurnedPouring(unittest.TestCase):
                     for cell in hollow[::5]:
                         told = leaves_by(asked[0], asked[1], turning.cell(cell))
                         self.assertEqual(told is None, leaves_by(hollow, vents, cell) is None)
+
+
+def hollows():
+    """Hollows with cells of unlike depths, some at the edges of all cells."""
+    found = parting_bodies()[::4] + [carved(seed, 6, 2 * seed) for seed in range(8)]
+    found += [block((56, -60, 0), 4), sorted(block((0, 0, 0), 5) + block((5, 0, 0), 3) + block((-60, 0, 57), 4))]
+    return found
+
+
+class TestTurnedCold(unittest.TestCase):
+    def test_depths_are_turned(self):
+        for hollow in hollows():
+            for turning in turnings():
+                expected = {turning.cell(cell): depth for cell, depth in depths(hollow).items()}
+                self.assertEqual(depths(turning.body(hollow)), expected)
+
+    def test_summits_are_turned(self):
+        for hollow in hollows():
+            for turning in turnings():
+                expected = sorted(turning.body(summit) for summit in summits(hollow))
+                self.assertEqual(summits(turning.body(hollow)), expected)
+                self.assertEqual(fewest_risers(turning.body(hollow)), [summit[0] for summit in expected])
+
+    def test_starved_cells_are_turned(self):
+        for hollow in hollows():
+            for risers in [[], hollow[5:6], hollow[3:90:9], fewest_risers(hollow)[1:]]:
+                for turning in turnings():
+                    asked = (turning.body(hollow), [turning.cell(riser) for riser in risers])
+                    self.assertEqual(starved(*asked), turning.body(starved(hollow, risers)))
+                    for cell in hollow[::40]:
+                        told = fed_by(asked[0], asked[1], turning.cell(cell))
+                        self.assertEqual(told is None, fed_by(hollow, risers, cell) is None)
 
 
 if __name__ == "__main__":
